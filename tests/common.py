@@ -1,0 +1,73 @@
+"""What several test files need: wrong values, and the check of a function's errors."""
+
+from itertools import combinations, permutations
+
+from forgetwork.archives import Archive
+from forgetwork.errors import BadArchive, BadDelay, BadRoom
+
+# Values that are no integer and no tuple with an item, so that they are wrong nearly everywhere.
+OTHER_KINDS = [None, True, False, "", "1", "high", b"", b"\x01", [], [1], {}, {0: 1}, set(), frozenset([0]), object(),
+               len, int, Archive, Archive((1, 1)), ValueError()]
+
+WRONG_ARCHIVES = [value for value in OTHER_KINDS if not isinstance(value, Archive)] + [0, 1, (), (2, 1, 3), ((2, 1),)]
+WRONG_ROOMS = OTHER_KINDS + [-1, 4, 5, -10 ** 30, 10 ** 30, (), (1,)]
+WRONG_DELAYS = OTHER_KINDS + [-1, 3, 4, -10 ** 30, 10 ** 30, (), (1,)]
+
+ARCHIVE = (BadArchive, WRONG_ARCHIVES)
+ROOM = (BadRoom, WRONG_ROOMS)
+DELAY = (BadDelay, WRONG_DELAYS)
+
+
+def refused(case, error, function, values):
+    """The call raises exactly this error."""
+    with case.subTest(function=function.__name__, values=repr(values)):
+        with case.assertRaises(error) as held:
+            function(*values)
+        case.assertIs(type(held.exception), error)
+
+
+def check_errors(case, function, right, wrong):
+    """Every wrong value of an argument is refused, and of two wrong arguments the first one counts."""
+    function(*right)
+    for first, (error, values) in enumerate(wrong):
+        for value in values:
+            refused(case, error, function, right[:first] + (value,) + right[first + 1:])
+    for first, second in combinations(range(len(wrong)), 2):
+        for value in wrong[first][1]:
+            for other in wrong[second][1]:
+                both = list(right)
+                both[first], both[second] = value, other
+                refused(case, wrong[first][0], function, tuple(both))
+
+
+def check_new(case, call):
+    """Each call returns a list of its own."""
+    once, again = call(), call()
+    case.assertIs(type(once), list)
+    case.assertIsNot(once, again)
+    kept = list(again)
+    once.append("more")
+    case.assertEqual(again, kept)
+    case.assertEqual(call(), kept)
+
+
+def subsets(items, most):
+    """All ascending tuples of at most so many items, in any order."""
+    return [some for count in range(most + 1) for some in combinations(sorted(items), count)]
+
+
+def some_builds(count, room):
+    """All builds of some of so many people."""
+    found = []
+    for size in range(count + 1):
+        for order in permutations(range(count), size):
+            found.extend([(order, kept) for kept in subsets(range(1, size), room)])
+    return found
+
+
+def some_waiting(order, delay):
+    """All waiting wishes of people of the order."""
+    found = []
+    for people in subsets(order, delay):
+        found.extend([tuple(zip(people, left)) for left in permutations(range(delay), len(people))])
+    return found
