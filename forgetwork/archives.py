@@ -1,7 +1,8 @@
 """Archives, and the builds of all their people."""
 
 from forgetwork.errors import BadArchive, BadRoom
-from forgetwork.values import all_choices, all_orders, is_tuple_within, is_within
+from forgetwork.kinds import is_tuple_within, is_within
+from forgetwork.orders import all_choices, all_orders
 
 MOST_PEOPLE = 4
 MOST_SIZE = 4

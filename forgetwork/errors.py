@@ -65,7 +65,6 @@ class BadLog(ForgetError):
     """Not a log; index tells the first wrong item, or is None if the whole is of a wrong form."""
 
     def __init__(self, index):
-        ForgetError.__init__(self, f"not a log from the position (index {index})")
         self.index = index
 
 
@@ -73,5 +72,4 @@ class BadText(ForgetError):
     """A text that cannot be read; row tells the first wrong line."""
 
     def __init__(self, row):
-        ForgetError.__init__(self, f"not a text that can be read (row {row})")
         self.row = row

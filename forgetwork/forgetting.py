@@ -2,7 +2,8 @@
 
 from forgetwork.archives import check_archive, check_room
 from forgetwork.errors import BadBuild, BadPeople
-from forgetwork.values import all_choices, all_orders, is_ascending, is_integer, is_tuple_within
+from forgetwork.kinds import is_ascending, is_integer, is_tuple_within
+from forgetwork.orders import all_choices, all_orders
 
 
 def is_build(archive, room, build):

@@ -3,7 +3,7 @@
 from forgetwork.archives import check_archive, check_room
 from forgetwork.errors import BadDelay, BadPosition, BadWish
 from forgetwork.forgetting import builds_after, forgetting_work, is_build
-from forgetwork.values import is_ascending, is_integer, is_within
+from forgetwork.kinds import is_ascending, is_integer, is_within
 
 MOST_DELAY = 2
 MOST_TICKS = 4

@@ -34,6 +34,10 @@ class ArchiveTest(unittest.TestCase):
                 self.assertIs(Archive(sizes) == Archive(others), sizes == others)
                 self.assertIs(Archive(sizes) != Archive(others), sizes != others)
 
+    def test_not_equal_to_an_object_of_another_class(self):
+        self.assertIs(Archive((1,)) == BadArchive("no archive"), False)
+        self.assertIs(Archive((1,)) != BadArchive("no archive"), True)
+
     def test_never_changes(self):
         archive = Archive((2, 1, 3))
         with self.assertRaises(AttributeError):
