@@ -1,12 +1,13 @@
 """Archives, and the builds of all their people."""
 
-from forgetwork.errors import BadArchive, BadRoom
+from forgetwork.errors import BadArchive, BadRoom, TooLarge
 from forgetwork.kinds import is_tuple_within, is_within
 from forgetwork.orders import all_choices, all_orders
 
 MOST_PEOPLE = 4
 MOST_SIZE = 4
 MOST_ROOM = 3
+FEW_PEOPLE = 3
 
 
 class Archive:
@@ -44,10 +45,25 @@ def check_room(room):
         raise BadRoom("a room is an integer from 0 to 3")
 
 
+def check_few(archive):
+    """Raise TooLarge if the archive has too many people for a search over all their builds."""
+    if len(archive) > FEW_PEOPLE:
+        raise TooLarge("the archive has more than three people")
+
+
+def people_of(archive):
+    """The ascending list of all people."""
+    return list(range(len(archive)))
+
+
+def builds_of(people, room):
+    """The list of all builds of the ascending people, in order."""
+    lengths = list(range(1, len(people)))
+    return [(order, kept) for order in all_orders(people) for kept in all_choices(lengths, room)]
+
+
 def builds(archive, room):
     """The list of all builds of all people, in order."""
     check_archive(archive)
     check_room(room)
-    lengths = list(range(1, len(archive)))
-    orders = all_orders(list(range(len(archive))))
-    return [(order, kept) for order in orders for kept in all_choices(lengths, room)]
+    return builds_of(people_of(archive), room)

@@ -1,7 +1,7 @@
 """The play of an asker and a builder: the wishes at a position, and the answers to them."""
 
 from forgetwork.archives import check_archive, check_room
-from forgetwork.errors import BadDelay, BadPosition, BadWish
+from forgetwork.errors import BadDelay, BadPosition, BadTicks, BadWish
 from forgetwork.forgetting import builds_after, forgetting_work, is_build
 from forgetwork.kinds import is_ascending, is_integer, is_within
 
@@ -13,6 +13,19 @@ def check_delay(delay):
     """Raise BadDelay if this is not a delay."""
     if not is_within(delay, 0, MOST_DELAY):
         raise BadDelay("a delay is an integer from 0 to 2")
+
+
+def check_ticks(ticks):
+    """Raise BadTicks if this is not a number of ticks."""
+    if not is_within(ticks, 0, MOST_TICKS):
+        raise BadTicks("ticks are an integer from 0 to 4")
+
+
+def check_play(archive, room, delay):
+    """Raise the error of the first of these arguments that is wrong."""
+    check_archive(archive)
+    check_room(room)
+    check_delay(delay)
 
 
 def is_waiting_wish(order, delay, pair):
@@ -42,9 +55,7 @@ def is_position(archive, room, delay, position):
 
 def check_position(archive, room, delay, position):
     """Raise the error of the first of these arguments that is wrong."""
-    check_archive(archive)
-    check_room(room)
-    check_delay(delay)
+    check_play(archive, room, delay)
     if not is_position(archive, room, delay, position):
         raise BadPosition("a position is a quadruple of an order, kept lengths, waiting wishes and ticks")
 
@@ -85,6 +96,29 @@ def possible_answers(archive, room, delay, position, wish):
         for rest, choice in builds_after(room, (order, kept), people):
             found.append((cost, (rest, choice, (), later)))
     return found
+
+
+def start_of(build, ticks):
+    """The position of a build without waiting wishes."""
+    order, kept = build
+    return (order, kept, (), ticks)
+
+
+class Play:
+    """The play with one archive, room and delay, as forgetwork.evidence wants it."""
+
+    def __init__(self, archive, room, delay):
+        self.archive = archive
+        self.room = room
+        self.delay = delay
+
+    def has(self, place):
+        """Whether this is a position of this play."""
+        return is_position(self.archive, self.room, self.delay, place)
+
+    def moves(self, place):
+        """For each wish at a position that is right, the list of all answers to it."""
+        return [possible_answers(self.archive, self.room, self.delay, place, wish) for wish in possible_wishes(place)]
 
 
 def wishes(archive, room, delay, position):

@@ -3,7 +3,8 @@
 from itertools import combinations, permutations
 
 from forgetwork.archives import Archive
-from forgetwork.errors import BadArchive, BadDelay, BadRoom
+from forgetwork.errors import (BadArchive, BadBound, BadBuild, BadDelay, BadPosition, BadRoom, BadSplit, BadTicks,
+                               TooLarge)
 
 # Values that are no integer and no tuple with an item, so that they are wrong nearly everywhere.
 OTHER_KINDS = [None, True, False, "", "1", "high", b"", b"\x01", [], [1], {}, {0: 1}, set(), frozenset([0]), object(),
@@ -13,9 +14,55 @@ WRONG_ARCHIVES = [value for value in OTHER_KINDS if not isinstance(value, Archiv
 WRONG_ROOMS = OTHER_KINDS + [-1, 4, 5, -10 ** 30, 10 ** 30, (), (1,)]
 WRONG_DELAYS = OTHER_KINDS + [-1, 3, 4, -10 ** 30, 10 ** 30, (), (1,)]
 
+WRONG_TICKS = OTHER_KINDS + [-1, 5, 6, -10 ** 30, 10 ** 30, (), (1,)]
+WRONG_BOUNDS = OTHER_KINDS + [-1, 21, 22, -10 ** 30, 10 ** 30, (), (1,)]
+
+# Wrong builds for three people and a room of 1.
+WRONG_BUILDS = OTHER_KINDS + [
+    0, (), ((0, 1, 2),), ((0, 1, 2), (1,), ()), [(0, 1, 2), (1,)], ([0, 1, 2], (1,)), ((0, 1, 2), [1]),
+    ((0, 1, 2), None), (None, ()), ((0, 1, 2), 1), (0, ()), ((0, True, 2), (1,)), ((False, 1, 2), ()),
+    ((0, 1, 2), (True,)), ((0, 1, "2"), ()), ((0, 1, None), ()), ((0, 1, [2]), ()), ((0, 1, (2,)), ()),
+    ((0, 1, 3), ()), ((-1, 1, 2), ()), ((0, 1, 10 ** 30), ()), ((0, 1, 1), ()), ((0, 1, 2, 0), ()),
+    ((0, 1, 2), (0,)), ((0, 1, 2), (3,)), ((0, 1, 2), (-1,)), ((0, 1, 2), ("1",)), ((0, 1, 2), (None,)),
+    ((0, 1, 2), ((1,),)), ((0, 1, 2), (1, 2)), ((0, 1, 2), (1, 1)), ((0, 1), (2,)), ((0,), (1,)), ((), (1,)),
+    ((), (0,)), (("0", "1"), ()), ("012", ()), ((0, 1, 2), "1")]
+
+# Wrong positions for three people, a room of 1 and a delay of 2.
+LINE = (0, 1, 2)
+_FORMS = OTHER_KINDS + [
+    0, (), (LINE, (1,)), (LINE, (1,), ()), (LINE, (1,), (), 2, 0), [LINE, (1,), (), 2], ((LINE, (1,)), (), 2)]
+_PARTS = [
+    ([0, 1, 2], (1,), (), 2), ((0, 1, 1), (), (), 2), ((0, 1, 3), (), (), 2), ((-1, 1), (), (), 2),
+    ((0, True), (), (), 2), ((0, None), (), (), 2), (None, (), (), 2), (0, (), (), 2), ("012", (), (), 2),
+    (LINE, [1], (), 2), (LINE, (0,), (), 2), (LINE, (3,), (), 2), (LINE, (1, 2), (), 2), (LINE, (True,), (), 2),
+    (LINE, ("1",), (), 2), (LINE, None, (), 2), (LINE, 1, (), 2), ((0,), (1,), (), 2), ((), (1,), (), 2)]
+_WAITING = [(LINE, (1,), waiting, 2) for waiting in OTHER_KINDS + [
+    0, (1,), (1, 0), [(1, 0)], ([1, 0],), ((1,),), ((1, 0, 0),), ((1, 2),), ((1, -1),), ((1, True),), ((1, False),),
+    ((True, 0),), ((False, 0),), ((3, 0),), ((-1, 0),), ((None, 0),), ((1, None),), (("1", 0),), ((1, "0"),), (None,),
+    ((1, 0), (0, 1)), ((0, 0), (0, 1)), ((0, 0), (1, 0)), ((1, 1), (1, 1)), ((0, 1), (1, 0), (2, 1)),
+    ((0, 0), (1, 1), (2, 2)), {1: 0}]] + [((0, 1), (), ((2, 0),), 2), ((), (), ((0, 0),), 2)]
+_LEFT = [(LINE, (1,), (), ticks) for ticks in OTHER_KINDS + [-1, 5, 6, 10 ** 30, (), (1,)]]
+WRONG_POSITIONS = _FORMS + _PARTS + _WAITING + _LEFT
+WRONG_WISHES = [value for value in OTHER_KINDS if value is not None] + [
+    3, -1, 10 ** 30, -10 ** 30, (), (0,), [0], ((0, 1),), "None", "0"]
+
+# Wrong splits of three people.
+WRONG_SPLITS = OTHER_KINDS + [
+    0, (), ((0, 1, 2), ()), ((),), ((0, 1, 2),) * 2, ((0, 1),), ((0,), (1,)), ((1, 2),), [(0, 1, 2)], ([0, 1, 2],),
+    ([0, 1], (2,)), ((0, 1), [2]), (0, 1, 2), ((0, 1), 2), ((0, 2, 1),), ((1, 0), (2,)), ((0, 2), (1,), ()),
+    ((1,), (0, 2)), ((2,), (0, 1)), ((0,), (2,), (1,)), ((2,), (1,), (0,)), ((0, 1), (1, 2)), ((0, 0, 1, 2),),
+    ((0, 0), (1, 2)), ((0,), (0,), (1, 2)), ((0,), (1,), (2,), (2,)), ((0, 1, 2, 3),), ((0, 1, 2), (3,)), ((-1, 0, 1, 2),),
+    ((0, 1, 3),), ((-1, 0, 1),), ((False, 1, 2),), ((0, True), (2,)), ((0, True, 2),), ((False,), (1, 2)), ((0, 1, None),),
+    ((0, 1, "2"),), (("0", "1", "2"),), ((0, 1), None), ((0, 1), "2"), ("012",), ((0, 1), ((2,),)), {(0, 1, 2): 1}]
+
 ARCHIVE = (BadArchive, WRONG_ARCHIVES)
 ROOM = (BadRoom, WRONG_ROOMS)
 DELAY = (BadDelay, WRONG_DELAYS)
+TICKS = (BadTicks, WRONG_TICKS)
+BUILD = (BadBuild, WRONG_BUILDS)
+POSITION = (BadPosition, WRONG_POSITIONS)
+BOUND = (BadBound, WRONG_BOUNDS)
+SPLIT = (BadSplit, WRONG_SPLITS)
 
 
 def refused(case, error, function, values):
@@ -38,6 +85,14 @@ def check_errors(case, function, right, wrong):
                 both = list(right)
                 both[first], both[second] = value, other
                 refused(case, wrong[first][0], function, tuple(both))
+
+
+def check_too_large(case, function, right, wrong):
+    """What is too large is refused, but every wrong value of an argument counts more."""
+    refused(case, TooLarge, function, right)
+    for at, (error, values) in enumerate(wrong):
+        for value in values:
+            refused(case, error, function, right[:at] + (value,) + right[at + 1:])
 
 
 def check_new(case, call):

@@ -1,39 +1,16 @@
 """Point [3]: forgetting."""
 
 import unittest
-from itertools import permutations
 
 from forgetwork.archives import Archive
 from forgetwork.errors import BadBuild, BadPeople
 from forgetwork.forgetting import after, work
-from tests.common import ARCHIVE, OTHER_KINDS, ROOM, check_errors, check_new, some_builds, subsets
+from tests.common import ARCHIVE, BUILD, OTHER_KINDS, ROOM, check_errors, check_new, some_builds, subsets
+from tests.plain import plain_after, plain_work
 
 THREE = Archive((2, 1, 3))
 FOUR = Archive((1, 2, 3, 4))
 LINE = (0, 1, 2, 3)
-
-
-def plain_base(build, people):
-    order, kept = build
-    return max(length for length in (0,) + kept if not set(order[:length]) & set(people))
-
-
-def plain_work(archive, build, people):
-    base = plain_base(build, people)
-    return sum(archive.sizes[person] for person in set(build[0][base:]) - set(people))
-
-
-def plain_after(room, build, people):
-    """All builds of the people who are left, less those that point [3] does not allow."""
-    order, kept = build
-    base = plain_base(build, people)
-    found = []
-    for again in permutations(set(order) - set(people)):
-        for lengths in subsets(range(1, len(again)), max(0, len(again) - 1)):
-            reached = all(length > base or length in kept for length in lengths)
-            if again[:base] == order[:base] and reached and len(lengths) <= room:
-                found.append((again, lengths))
-    return sorted(found)
 
 
 class WorkTest(unittest.TestCase):
@@ -123,14 +100,6 @@ class EveryBuildTest(unittest.TestCase):
 
 
 class WrongTest(unittest.TestCase):
-    BUILDS = (BadBuild, OTHER_KINDS + [
-        0, (), ((0, 1, 2),), ((0, 1, 2), (1,), ()), [(0, 1, 2), (1,)], ([0, 1, 2], (1,)), ((0, 1, 2), [1]),
-        ((0, 1, 2), None), (None, ()), ((0, 1, 2), 1), (0, ()), ((0, True, 2), (1,)), ((False, 1, 2), ()),
-        ((0, 1, 2), (True,)), ((0, 1, "2"), ()), ((0, 1, None), ()), ((0, 1, [2]), ()), ((0, 1, (2,)), ()),
-        ((0, 1, 3), ()), ((-1, 1, 2), ()), ((0, 1, 10 ** 30), ()), ((0, 1, 1), ()), ((0, 1, 2, 0), ()),
-        ((0, 1, 2), (0,)), ((0, 1, 2), (3,)), ((0, 1, 2), (-1,)), ((0, 1, 2), ("1",)), ((0, 1, 2), (None,)),
-        ((0, 1, 2), ((1,),)), ((0, 1, 2), (1, 2)), ((0, 1, 2), (1, 1)), ((0, 1), (2,)), ((0,), (1,)), ((), (1,)),
-        ((), (0,)), (("0", "1"), ()), ("012", ()), ((0, 1, 2), "1")])
     PEOPLE = (BadPeople, OTHER_KINDS + [
         0, 1, (), (3,), (-1,), (0, 3), (1, 0), (0, 0), (2, 1), (0, 2, 1), (True,), (False,), (0, True), ("0",), (None,),
         ((0,),), ([0],), [0], [0, 1], {0: True}, (10 ** 30,), range(2)])
@@ -138,7 +107,7 @@ class WrongTest(unittest.TestCase):
     def test_wrong_arguments(self):
         right = (THREE, 1, ((0, 1, 2), (1,)), (1,))
         for function in (work, after):
-            check_errors(self, function, right, [ARCHIVE, ROOM, self.BUILDS, self.PEOPLE])
+            check_errors(self, function, right, [ARCHIVE, ROOM, BUILD, self.PEOPLE])
 
     def test_kept_lengths_must_ascend(self):
         wrong = (BadBuild, [(LINE, (2, 1)), (LINE, (1, 1)), (LINE, (1, 3, 2)), (LINE, (1, 2, 4)), (LINE, (0, 1))])

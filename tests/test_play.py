@@ -1,44 +1,17 @@
 """Point [4]: positions."""
 
 import unittest
-from itertools import permutations
 
 from forgetwork.archives import Archive
 from forgetwork.errors import BadPosition, BadWish
 from forgetwork.play import answers, wishes
-from tests.common import ARCHIVE, DELAY, OTHER_KINDS, ROOM, check_errors, check_new, some_builds, some_waiting, subsets
+from tests.common import (ARCHIVE, DELAY, POSITION, ROOM, WRONG_WISHES, check_errors, check_new, some_builds,
+                          some_waiting)
+from tests.plain import plain_answers, plain_wishes
 
 PAIR = Archive((2, 1))
 THREE = Archive((2, 1, 3))
 LINE = (0, 1, 2)
-
-
-def plain_wishes(position):
-    order, _, waiting, ticks = position
-    if ticks > 0:
-        return sorted(set(order) - set(dict(waiting))) + [None]
-    return [None] * min(1, len(waiting))
-
-
-def plain_answers(archive, room, delay, position, wish):
-    """All positions at the next tick, less those that point [4] does not allow."""
-    order, kept, waiting, ticks = position
-    pending = dict(waiting)
-    if wish is not None:
-        pending[wish] = delay
-    ticks_after = ticks - 1 if ticks else 0
-    found = []
-    if ticks and 0 not in pending.values():
-        one_less = tuple((person, pending[person] - 1) for person in sorted(pending))
-        found.append((0, (order, kept, one_less, ticks_after)))
-    if pending:
-        base = max(length for length in (0,) + kept if not set(order[:length]) & set(pending))
-        cost = sum(archive.sizes[person] for person in order[base:] if person not in pending)
-        left = sorted(set(order) - set(pending))
-        lengths = [length for length in range(1, len(left)) if length in kept or length > base]
-        found.extend([(cost, (again, some, (), ticks_after)) for again in permutations(left)
-                      for some in sorted(subsets(lengths, room)) if again[:base] == order[:base]])
-    return found
 
 
 class WishesTest(unittest.TestCase):
@@ -156,28 +129,13 @@ class EveryPositionTest(unittest.TestCase):
 
 class WrongTest(unittest.TestCase):
     RIGHT = (THREE, 1, 2, (LINE, (1,), ((1, 0),), 2))
-    FORMS = OTHER_KINDS + [
-        0, (), (LINE, (1,)), (LINE, (1,), ()), (LINE, (1,), (), 2, 0), [LINE, (1,), (), 2], ((LINE, (1,)), (), 2)]
-    BUILDS = [
-        ([0, 1, 2], (1,), (), 2), ((0, 1, 1), (), (), 2), ((0, 1, 3), (), (), 2), ((-1, 1), (), (), 2),
-        ((0, True), (), (), 2), ((0, None), (), (), 2), (None, (), (), 2), (0, (), (), 2), ("012", (), (), 2),
-        (LINE, [1], (), 2), (LINE, (0,), (), 2), (LINE, (3,), (), 2), (LINE, (1, 2), (), 2), (LINE, (True,), (), 2),
-        (LINE, ("1",), (), 2), (LINE, None, (), 2), (LINE, 1, (), 2), ((0,), (1,), (), 2), ((), (1,), (), 2)]
-    WAITING = [(LINE, (1,), waiting, 2) for waiting in OTHER_KINDS + [
-        0, (1,), (1, 0), [(1, 0)], ([1, 0],), ((1,),), ((1, 0, 0),), ((1, 2),), ((1, -1),), ((1, True),), ((1, False),),
-        ((True, 0),), ((False, 0),), ((3, 0),), ((-1, 0),), ((None, 0),), ((1, None),), (("1", 0),), ((1, "0"),), (None,),
-        ((1, 0), (0, 1)), ((0, 0), (0, 1)), ((0, 0), (1, 0)), ((1, 1), (1, 1)), ((0, 1), (1, 0), (2, 1)),
-        ((0, 0), (1, 1), (2, 2)), {1: 0}]] + [((0, 1), (), ((2, 0),), 2), ((), (), ((0, 0),), 2)]
-    TICKS = [(LINE, (1,), (), ticks) for ticks in OTHER_KINDS + [-1, 5, 6, 10 ** 30, (), (1,)]]
-    POSITIONS = (BadPosition, FORMS + BUILDS + WAITING + TICKS)
-    WISHES = (BadWish, [value for value in OTHER_KINDS if value is not None] + [
-        3, -1, 10 ** 30, -10 ** 30, (), (0,), [0], ((0, 1),), "None", "0"])
+    WISHES = (BadWish, WRONG_WISHES)
 
     def test_wishes(self):
-        check_errors(self, wishes, self.RIGHT, [ARCHIVE, ROOM, DELAY, self.POSITIONS])
+        check_errors(self, wishes, self.RIGHT, [ARCHIVE, ROOM, DELAY, POSITION])
 
     def test_answers(self):
-        check_errors(self, answers, self.RIGHT + (0,), [ARCHIVE, ROOM, DELAY, self.POSITIONS, self.WISHES])
+        check_errors(self, answers, self.RIGHT + (0,), [ARCHIVE, ROOM, DELAY, POSITION, self.WISHES])
 
     def refused(self, room, delay, position):
         wrong = (BadPosition, [position])
