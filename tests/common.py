@@ -3,12 +3,20 @@
 from itertools import combinations, permutations
 
 from forgetwork.archives import Archive
-from forgetwork.errors import (BadArchive, BadBound, BadBuild, BadDelay, BadPosition, BadRoom, BadSplit, BadTicks,
-                               TooLarge)
+from forgetwork.errors import (BadArchive, BadBound, BadBuild, BadDelay, BadKeeper, BadLog, BadPosition, BadRoom,
+                               BadSplit, BadText, BadTicks, BadWish, TooLarge)
+
+
+class Same:
+    """An object that says that it equals everything."""
+
+    def __eq__(self, other):
+        return True
+
 
 # Values that are no integer and no tuple with an item, so that they are wrong nearly everywhere.
 OTHER_KINDS = [None, True, False, "", "1", "high", b"", b"\x01", [], [1], {}, {0: 1}, set(), frozenset([0]), object(),
-               len, int, Archive, Archive((1, 1)), ValueError()]
+               len, int, Archive, Archive((1, 1)), ValueError(), Same()]
 
 WRONG_ARCHIVES = [value for value in OTHER_KINDS if not isinstance(value, Archive)] + [0, 1, (), (2, 1, 3), ((2, 1),)]
 WRONG_ROOMS = OTHER_KINDS + [-1, 4, 5, -10 ** 30, 10 ** 30, (), (1,)]
@@ -55,6 +63,19 @@ WRONG_SPLITS = OTHER_KINDS + [
     ((0, 1, 3),), ((-1, 0, 1),), ((False, 1, 2),), ((0, True), (2,)), ((0, True, 2),), ((False,), (1, 2)), ((0, 1, None),),
     ((0, 1, "2"),), (("0", "1", "2"),), ((0, 1), None), ((0, 1), "2"), ("012",), ((0, 1), ((2,),)), {(0, 1, 2): 1}]
 
+WRONG_KEEPERS = [value for value in OTHER_KINDS if value != "high" or isinstance(value, Same)] + [
+    0, 1, -1, 10 ** 30, (), ("low",), ["low"], ("none", "low"), b"low", "None", "LOW", "Lazy", "lo", "lows", " low",
+    "low ", "high\n", "none low", "keeper", "0"]
+
+# Wrong logs from any position of three people: a whole of a wrong form, or a wrong first item.
+WRONG_LOGS = [value for value in OTHER_KINDS if value != [] or isinstance(value, Same)] + [
+    0, 1, "0" * 12, {0: 1, 1: 2}, iter([]), range(0), (None,), [None], (0,), ((),), [()], [(0,)], [(0, 1, 2)], [(None, None)],
+    [(0, 1)], (0, LINE), [[0, (LINE, (), (), 1)]], [(3, (LINE, (), (), 1))], [None] * 12, (None,) * 12, [None] * 13,
+    (None,) * 13, [()] * 100]
+
+WRONG_TEXTS = [value for value in OTHER_KINDS if not isinstance(value, str)] + [
+    0, 1, -1, (), ("sizes 1\n",), ["sizes 1\n"], b"sizes 1\n", b"order -\nkept -\nticks 0\n"]
+
 ARCHIVE = (BadArchive, WRONG_ARCHIVES)
 ROOM = (BadRoom, WRONG_ROOMS)
 DELAY = (BadDelay, WRONG_DELAYS)
@@ -63,6 +84,10 @@ BUILD = (BadBuild, WRONG_BUILDS)
 POSITION = (BadPosition, WRONG_POSITIONS)
 BOUND = (BadBound, WRONG_BOUNDS)
 SPLIT = (BadSplit, WRONG_SPLITS)
+WISH = (BadWish, WRONG_WISHES)
+KEEPER = (BadKeeper, WRONG_KEEPERS)
+LOG = (BadLog, WRONG_LOGS)
+TEXT = (BadText, WRONG_TEXTS)
 
 
 def refused(case, error, function, values):
@@ -71,6 +96,17 @@ def refused(case, error, function, values):
         with case.assertRaises(error) as held:
             function(*values)
         case.assertIs(type(held.exception), error)
+
+
+def refused_at(case, error, told, function, values):
+    """The call raises exactly this error, whose index or row tells where."""
+    with case.subTest(function=function.__name__, values=repr(values)):
+        with case.assertRaises(error) as held:
+            function(*values)
+        case.assertIs(type(held.exception), error)
+        name = {BadLog: "index", BadText: "row"}[error]
+        found = getattr(held.exception, name)
+        case.assertEqual((type(found), found), (type(told), told))
 
 
 def check_errors(case, function, right, wrong):

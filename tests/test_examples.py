@@ -60,6 +60,36 @@ FEWEST_SHARDS = """
 [[5, 3, 3], 3, [3, 3, 2, 1]]
 """
 
+KEEPERS = """
+>>> from forgetwork.archives import Archive
+>>> from forgetwork.keepers import Worst, answer, most_work, worst
+>>> from forgetwork.total import begin
+>>> three = Archive((2, 1, 3))
+>>> start = begin(three, 1, 1, ((0, 1, 2), (1,)), 2)
+>>> found = [answer(three, 1, 1, start, 0, keeper) for keeper in ('none', 'low', 'lazy')]
+>>> small = begin(Archive((2, 1)), 0, 0, ((0, 1), ()), 1)
+>>> heights = {small: 2, ((1,), (), (), 0): 0, ((0,), (), (), 0): 0, ((0, 1), (), (), 0): 0}
+>>> shown = [Worst(2, [1], heights).shows(Archive((2, 1)), 0, 0, small, 'high'), Worst(2, [0], heights).shows(Archive((2, 1)), 0, 0, small, 'high')]
+>>> [found, [most_work(three, 1, 1, start, keeper) for keeper in ('none', 'low', 'high', 'lazy')], worst(three, 1, 1, start, 'low').shows(three, 1, 1, start, 'low'), shown]
+[[(4, ((1, 2), (), (), 1)), (4, ((1, 2), (1,), (), 1)), (0, ((0, 1, 2), (1,), ((0, 0),), 1))], [7, 7, 7, 4], True, [True, False]]
+"""
+
+SESSIONS = r"""
+>>> from forgetwork.archives import Archive
+>>> from forgetwork.logs import after_log, asked, spent
+>>> from forgetwork.sessions import Session
+>>> from forgetwork.texts import archive_text, position_text, read_archive, read_position
+>>> three, start = Archive((2, 1, 3)), ((0, 1, 2), (1,), (), 2)
+>>> session = Session(three, 1, 1, start)
+>>> late = ((0, 1, 2), (1,), ((1, 0),), 1)
+>>> found = [session.play(1, late), session.tried([(None, ((0, 2), (1,), (), 0))]), session.work(), session.position == late, session.undo() == (1, late), len(session)]
+>>> log = [(1, late), (2, ((0,), (), (), 0))]
+>>> facts = [spent(three, 1, 1, start, log), after_log(three, 1, 1, start, log), asked(three, 1, 1, start, log)]
+>>> texts = [archive_text(three), position_text(three, 1, 1, late), read_position(three, 1, 1, 'order 2\nkept -\nticks 0\n')]
+>>> [found, facts, texts, read_archive('sizes 2 1 3\n') == three, read_position(three, 1, 1, position_text(three, 1, 1, late)) == late]
+[[0, [3], 0, True, True, 0], [[0, 0], ((0,), (), (), 0), (1, 2)], ['sizes 2 1 3\n', 'order 0 1 2\nkept 1\n1 waits 0\nticks 1\n', ((2,), (), (), 0)], True, True]
+"""
+
 
 class ExamplesTest(unittest.TestCase):
     def check(self, text, lines=5):
@@ -83,6 +113,12 @@ class ExamplesTest(unittest.TestCase):
     def test_shards(self):
         self.check(SHARDS, 5)
         self.check(FEWEST_SHARDS, 4)
+
+    def test_keepers(self):
+        self.check(KEEPERS, 10)
+
+    def test_sessions(self):
+        self.check(SESSIONS, 12)
 
     def test_readme(self):
         text = README.read_text()

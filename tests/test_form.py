@@ -73,6 +73,28 @@ class FormTest(unittest.TestCase):
                 dunder = node.name.startswith("__")
                 self.assertTrue(not dunder or node.name in METHODS, (path, node.name))
 
+    def test_errors_and_identity(self):
+        for path in FILES:
+            tree = tree_of(path)
+            imported = [alias.name for node in every(tree, ast.ImportFrom) for alias in node.names]
+            for node in every(tree, ast.ExceptHandler):
+                self.assertIn(getattr(node.type, "id", None), imported, (path, node.lineno))
+            for node in every(tree, ast.Raise):
+                self.assertIsInstance(node.exc, (ast.Call, type(None)), (path, node.lineno))
+            for node in every(tree, ast.Compare):
+                for sign, side in zip(node.ops, node.comparators):
+                    single = isinstance(side, ast.Constant) and (side.value is None or isinstance(side.value, bool))
+                    self.assertTrue(single or not isinstance(sign, (ast.Is, ast.IsNot)), (path, node.lineno))
+
+    def test_the_end_of_a_with_block_only_assigns(self):
+        for path in FILES:
+            for node in every(tree_of(path), ast.FunctionDef):
+                if node.name == "__exit__":
+                    for row in node.body:
+                        self.assertIsInstance(row, ast.Assign, path)
+                        self.assertIsInstance(row.value, (ast.Name, ast.Attribute), path)
+                        self.assertIsInstance(row.targets[0], (ast.Name, ast.Attribute), path)
+
     def test_imports(self):
         trees = {path.stem: tree_of(path) for path in FILES}
         above = {}
